@@ -1,0 +1,1 @@
+"""Mostwise: rules that hold mostly."""
