@@ -49,6 +49,14 @@ def parts_of(statement):
     return (side, cut[0], places)
 
 
+def is_statement(thing):
+    try:
+        parts_of(thing)
+    except NoStatement:
+        return False
+    return True
+
+
 def text_of(side, name, places):
     if len(places) == 0:
         return side + name
@@ -65,6 +73,10 @@ def letters_of(statement):
         if is_letter(place) and place not in letters:
             letters.append(place)
     return letters
+
+
+def is_written_out(thing):
+    return is_statement(thing) and letters_of(thing) == []
 
 
 def put_for(place, given):

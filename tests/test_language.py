@@ -120,5 +120,108 @@ class LanguageTest(unittest.TestCase):
         self.assertEqual(methods & values, set())
 
 
+    def test_one_plain_target_in_an_assignment(self):
+        for name, node in nodes(ast.Assign):
+            self.assertNotIsInstance(node.targets[0], (ast.Tuple, ast.List), (name, node.lineno))
+
+    def test_no_local_is_called_like_a_name_of_its_file(self):
+        for name, tree in trees():
+            top = {alias.asname or alias.name for node in tree.body if isinstance(node, ast.ImportFrom)
+                   for alias in node.names}
+            top |= {node.name for node in tree.body if isinstance(node, (ast.FunctionDef, ast.ClassDef))}
+            tops = [node.targets[0].id for node in tree.body if isinstance(node, ast.Assign)]
+            self.assertEqual(len(tops), len(set(tops)), name)
+            top |= set(tops)
+            for function in [node for node in ast.walk(tree) if isinstance(node, ast.FunctionDef)]:
+                bound = {node.arg for node in ast.walk(function) if isinstance(node, ast.arg)}
+                bound |= {node.id for node in ast.walk(function)
+                          if isinstance(node, ast.Name) and isinstance(node.ctx, ast.Store)}
+                self.assertEqual(bound & top, set(), (name, function.name))
+
+    def test_the_top_of_a_file(self):
+        for name, tree in trees():
+            for node in tree.body[1:]:
+                self.assertIsInstance(node, (ast.ImportFrom, ast.FunctionDef, ast.ClassDef, ast.Assign), name)
+                if isinstance(node, ast.Assign):
+                    ast.literal_eval(node.value)
+
+    def test_imports_stand_first_are_used_and_never_go_round(self):
+        drawn = {}
+        for name, tree in trees():
+            rows = [node for node in tree.body if isinstance(node, ast.ImportFrom)]
+            self.assertEqual(tree.body[1:1 + len(rows)], rows, name)
+            drawn[name[:-3]] = {node.module.partition(".")[2] for node in rows}
+            used = {node.id for node in ast.walk(tree) if isinstance(node, ast.Name)}
+            self.assertEqual({alias.name for node in rows for alias in node.names} - used, set(), name)
+            for node in rows:
+                defined = ast.parse((PACKAGE / (node.module.partition(".")[2] + ".py")).read_text(encoding="utf-8"))
+                own = {part.name for part in defined.body if isinstance(part, (ast.FunctionDef, ast.ClassDef))}
+                own |= {part.targets[0].id for part in defined.body if isinstance(part, ast.Assign)}
+                self.assertEqual({alias.name for alias in node.names} - own, set(), name)
+        while drawn:
+            free = [name for name in drawn if not drawn[name] & set(drawn)]
+            self.assertNotEqual(free, [], "files draw from one another")
+            for name in free:
+                drawn.pop(name)
+
+    def test_comparisons_by_is(self):
+        for name, node in nodes(ast.Compare):
+            for operator, right in zip(node.ops, node.comparators):
+                if isinstance(operator, (ast.Is, ast.IsNot)):
+                    self.assertIsInstance(right, ast.Constant, (name, node.lineno))
+
+    def test_what_is_walked_at_once(self):
+        for name, tree in trees():
+            fine = set()
+            for node in ast.walk(tree):
+                if isinstance(node, (ast.For, ast.comprehension)):
+                    fine.add(node.iter)
+                if isinstance(node, ast.Call) and isinstance(node.func, ast.Name) and node.args:
+                    if node.func.id in ("list", "tuple", "dict", "sorted", "sum", "any", "all", "enumerate", "zip"):
+                        fine.add(node.args[0])
+            for node in ast.walk(tree):
+                if isinstance(node, ast.Call):
+                    called = node.func.id if isinstance(node.func, ast.Name) else getattr(node.func, "attr", "")
+                    if called in ("zip", "enumerate", "reversed", "range", "items", "keys", "values"):
+                        self.assertIn(node, fine, (name, node.lineno))
+
+    def test_sets_stand_within_len_alone(self):
+        for name, tree in trees():
+            within = {node.args[0] for node in ast.walk(tree) if isinstance(node, ast.Call)
+                      and isinstance(node.func, ast.Name) and node.func.id in ("len", "sorted")}
+            for node in ast.walk(tree):
+                self.assertNotIsInstance(node, ast.Set, name)
+                if isinstance(node, ast.Call) and isinstance(node.func, ast.Name) and node.func.id in ("set", "frozenset"):
+                    self.assertIn(node, within, (name, node.lineno))
+
+    def test_keywords(self):
+        for name, node in nodes(ast.Call):
+            for keyword in node.keywords:
+                self.assertIn((node.func.id, keyword.arg), [("sorted", "key"), ("min", "key"), ("max", "key")], name)
+
+    def test_errors_are_raised_and_taken_by_the_programs_own_names(self):
+        for name, node in nodes(ast.ExceptHandler):
+            self.assertIsInstance(node.type, ast.Name, (name, node.lineno))
+            self.assertNotIn(node.type.id, ("Exception", "TypeError", "ValueError", "LookupError", "IndexError"), name)
+        for name, node in nodes(ast.Raise):
+            self.assertIsInstance(node.exc, ast.Call, (name, node.lineno))
+        for name, node in nodes(ast.Try):
+            self.assertEqual(node.finalbody, [], (name, node.lineno))
+
+    def test_texts(self):
+        for name, node in nodes(ast.Constant):
+            if isinstance(node.value, str):
+                self.assertNotIn(chr(37), node.value, (name, node.lineno))
+        for name, node in nodes(ast.JoinedStr):
+            self.fail((name, node.lineno))
+
+    def test_names_that_are_not_used(self):
+        banned = {"register", "mro", "elements", "open", "input", "version_info", "with_traceback", "add_note", "format",
+                  "format_map", "args"}
+        for name, node in nodes(ast.Name, ast.Attribute, ast.FunctionDef, ast.arg):
+            for field in ("id", "attr", "name", "arg"):
+                self.assertNotIn(getattr(node, field, ""), banned, name)
+
+
 if __name__ == "__main__":
     unittest.main()
