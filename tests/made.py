@@ -5,7 +5,15 @@ import random
 from mostwise.books import Book
 from mostwise.errors import MostError
 from mostwise.ground import Ground
+from mostwise.lines import pair_of, rule_of
+from mostwise.mostly import Answers
 from mostwise.rules import Block, Fact, Most, Sure
+
+
+def read_ground(*rows):
+    """The ground of the rules and pairs that are written as these rows."""
+    beats = [row for row in rows if row.startswith("beats ")]
+    return Ground([rule_of(row) for row in rows if row not in beats], [pair_of(row) for row in beats])
 
 
 def statement(source, names, places=("",)):
@@ -69,3 +77,10 @@ def book(number, facts=4, many=8):
     for one, other in pairs(source, labels, True):
         try_to(told.beat, one, other)
     return told
+
+
+def all_so(here):
+    """All claims that are so in a ground, in an order in which each follows from those ahead."""
+    answers = Answers(here)
+    decided = [q for q in here.statements() if answers.answer(q) != "open"]
+    return [("held" if answers.held(q) else "refused", q) for q in sorted(decided, key=answers.rank)]

@@ -107,3 +107,51 @@ def leaning(rules, some):
         if more == told:
             return sorted(told)
         told = more
+
+
+def follows(rules, pairs, sures, rows, claim):
+    """[60]"""
+    ask = {"held": may_hold, "refused": may_refuse}[claim[0]]
+    return ask(rules, pairs, sures, [q for word, q in rows if word == "held"],
+               [q for word, q in rows if word == "refused"], claim[1])
+
+
+def let_by(rules, pairs, paper):
+    """[61], the list of sure statements is looked at by [44]."""
+    sures, rows = paper
+    sure = [rule for rule in rules if rule.word() in ("fact", "sure")]
+    if sorted(sures) != sorted(sure_ranks(rules)):
+        return False
+    for at, text in enumerate(sures):
+        if not any(rule.head == text and set(rule.body) <= set(sures[:at]) for rule in sure):
+            return False
+    return all(follows(rules, pairs, sures, rows[:at], row) for at, row in enumerate(rows))
+
+
+def keeps_open(rules, pairs, told):
+    """[63]"""
+    sures, rows, some = told
+    if not let_by(rules, pairs, (sures, rows)) or some != sorted(set(some)):
+        return False
+
+    def as_held(q):
+        return q not in some and ("refused", q) not in rows
+
+    def as_refused(q):
+        return q not in some and ("held", q) not in rows
+
+    for q in some:
+        speaking = [rule for rule in rules if rule.head == q and rule.word() != "block"]
+        against = [rule for rule in rules if rule.head == opp(q)]
+        stand = [rule for rule in speaking if all(as_held(premise) for premise in rule.body)]
+        fall = [rule for rule in speaking if any(as_refused(premise) for premise in rule.body)]
+        first = q in sures or opp(q) in sures
+        second = (opp(q) not in sures and bool(stand) and all(
+            any(as_refused(premise) for premise in rule.body) or any((one.label, rule.label) in pairs for one in stand)
+            for rule in against))
+        third = len(fall) == len(speaking)
+        fourth = any(all(as_held(premise) for premise in rule.body)
+                     and all(one in fall or (one.label, rule.label) not in pairs for one in speaking) for rule in against)
+        if first or second or third or fourth:
+            return False
+    return True

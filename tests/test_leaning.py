@@ -4,13 +4,9 @@ import unittest
 
 import made
 import oracle
+from made import read_ground as ground
 from mostwise.ground import Ground
 from mostwise.leaning import leaners, leans_on
-from mostwise.lines import rule_of
-
-
-def ground(*rows):
-    return Ground([rule_of(row) for row in rows], [])
 
 
 class LeansOnTest(unittest.TestCase):

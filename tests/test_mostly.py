@@ -6,17 +6,13 @@ import unittest
 
 import made
 import oracle
+from made import read_ground as ground
 from mostwise.ground import Ground, ground_of
 from mostwise.leaning import leaners
 from mostwise.lines import rule_of
 from mostwise.mostly import Answers, holds_by, most_rounds, refused_by
 from mostwise.sure import sure_steps
 from mostwise.words import opposite
-
-
-def ground(*rows):
-    pairs = [tuple(row.split(" ")[1:]) for row in rows if row.startswith("beats ")]
-    return Ground([rule_of(row) for row in rows if not row.startswith("beats ")], pairs)
 
 
 def answered(*rows):

@@ -6,6 +6,7 @@ import unittest
 
 import made
 import oracle
+from made import read_ground as ground
 from mostwise.ground import Ground
 from mostwise.lines import rule_of
 from mostwise.sure import is_sure_set, sure_rounds, sure_steps
@@ -13,10 +14,6 @@ from mostwise.sure import is_sure_set, sure_rounds, sure_steps
 
 def read(*rows):
     return [rule_of(row) for row in rows]
-
-
-def ground(*rows):
-    return Ground(read(*rows), [])
 
 
 CHAIN = read("sure c: s -> t", "sure b: q -> s", "sure a: p -> q", "fact p")
