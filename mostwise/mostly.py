@@ -71,6 +71,14 @@ def most_rounds(ground, some, sures, known):
     return told
 
 
+def answer_by(is_sure, word):
+    if is_sure:
+        return "surely"
+    if word == HELD:
+        return "mostly"
+    return "no" if word == REFUSED else "open"
+
+
 class Answers:
     def __init__(self, ground):
         self.standing = keyed(ground.statements())
@@ -93,11 +101,7 @@ class Answers:
         return self.word_and_rank(q)[0] == REFUSED
 
     def answer(self, q):
-        if self.sure(q):
-            return "surely"
-        if self.held(q):
-            return "mostly"
-        return "no" if self.refused(q) else "open"
+        return answer_by(self.sure(q), self.word_and_rank(q)[0])
 
     def rank(self, q):
         return self.word_and_rank(q)[1]
