@@ -5,7 +5,6 @@ from mostwise.errors import Decided
 from mostwise.leaning import leans_on
 from mostwise.mostly import HELD, REFUSED, Answers, holds_by, refused_by
 from mostwise.papers import claims_by_rank, lets_by, with_word
-from mostwise.words import opposite
 
 
 def rises(some):
@@ -25,14 +24,11 @@ def keeps_open(ground, told):
         return False
     maybe_held = out_of_the_way(ground, some, with_word(rows, REFUSED))
     maybe_refused = out_of_the_way(ground, some, with_word(rows, HELD))
-    for q in some:
-        if q in sures or opposite(q) in sures:
-            return False
-        if holds_by(ground, sures, maybe_held, maybe_refused, q):
-            return False
-        if refused_by(ground, sures, maybe_held, maybe_refused, q):
-            return False
-    return True
+    # What is sure may be held, and its opposite, where not sure, be refused: so these, too, could come in here.
+    return not any([
+        holds_by(ground, sures, maybe_held, maybe_refused, q) or refused_by(ground, sures, maybe_held, maybe_refused, q)
+        for q in some
+    ])
 
 
 def open_of(ground, statement):

@@ -382,6 +382,15 @@ class TalkTest(DeskTest):
         self.assertEqual(desk.say("wish"), ["12"])
         self.assertEqual(desk.say("press 12"), ["held x"])
 
+    def test_numbers_are_made_of_figures_alone(self):
+        desk = begun(CHAIN + ["talk held q", "lay"])
+        for sign in [chr(code) for code in range(32, 127)]:
+            for number in (sign, "1" + sign, sign + "1"):
+                figures = number.isdigit() and (number == "0" or number[0] != "0")
+                if number != "0":
+                    self.refused(desk, NoStand if figures else NoRow, "press " + number)
+        self.assertEqual(desk.say("press 0"), ["held p"])
+
     def test_a_talk_about_what_stands_nowhere(self):
         desk = begun(["things a", "talk refused x"])
         self.assertEqual((desk.say("stand"), desk.say("lay"), desk.say("table")), ([], [], ["over"]))

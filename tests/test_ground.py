@@ -48,6 +48,7 @@ class WrittenOutTest(unittest.TestCase):
         for rule in read("fact p", "fact p(a,b)", "sure r: -> p", "most r: q(a), -p -> -p(b)", "block r: p -> p"):
             for things in (["a"], ["b", "a"], EIGHT):
                 self.assertEqual([seen(told) for told in written_out(rule, things)], [seen(rule)])
+                self.assertIs(written_out(rule, things)[0], rule)
 
     def test_one_letter_goes_through_the_things_in_their_order(self):
         rule = rule_of("most r: bird(A), -sick(A) -> flies(A)")

@@ -327,14 +327,19 @@ class OwnTest(unittest.TestCase):
     def test_lists_that_are_told_are_the_askers_own(self):
         kept = kept_of("most a: p -> q")
         changes = kept.put(Fact("p"))
-        before = told(kept)
+        rows = ["fact p", "most a: p -> q"]
         changes.clear()
         kept.listed().clear()
         kept.looked().append("x")
+        kept.looked().reverse()
         kept.listed().append(("x", "surely"))
         kept.ground().rules().clear()
-        self.assertEqual(told(kept), before)
+        self.assertEqual(told(kept), ("\n".join(["things a b"] + rows), [
+            ("-p", "no"), ("-q", "no"), ("p", "surely"), ("q", "mostly")], ["-p", "-q", "p", "q"], rows))
         self.assertEqual(kept.answer("x"), "no")
+        fresh = kept_of("fact p")
+        fresh.looked().append("x")
+        self.assertEqual(fresh.looked(), [])
 
     def test_two_kept_books_share_nothing(self):
         book = book_of("things a\nfact p")
